@@ -1,0 +1,56 @@
+"""Promise [28]: what has landed stands under its name, in its file, with its arguments."""
+
+import importlib
+import inspect
+import unittest
+
+FUNCTIONS = {
+    "maps": {"is_world": ["chart", "thing"]},
+    "standings": {
+        "begin": ["chart"],
+        "is_done": ["chart", "standing"],
+        "alive": ["chart", "standing"],
+        "tries": ["chart", "standing"],
+        "worth": ["chart", "standing"],
+        "sure": ["chart", "standing"],
+        "news": ["chart", "standing", "arrow", "sound"],
+        "way_on": ["chart", "standing", "place"],
+        "dead_end": ["chart", "standing", "place"],
+        "world_with": ["chart", "standing", "arrow", "sound"],
+    },
+}
+
+CLASSES = {
+    "maps": {"Map": {"__init__": ["many", "arrows", "goals"], "many": [], "arrows": [], "goals": []}},
+}
+
+
+def module_of(name):
+    return importlib.import_module("untriedways." + name)
+
+
+class InterfaceTest(unittest.TestCase):
+    def test_functions(self):
+        for file, listed in FUNCTIONS.items():
+            for name, told in listed.items():
+                function = getattr(module_of(file), name)
+                self.assertTrue(inspect.isfunction(function))
+                self.assertEqual(function.__module__, "untriedways." + file)
+                self.assertEqual(list(inspect.signature(function).parameters), told)
+
+    def test_classes_and_their_own_methods(self):
+        for file, listed in CLASSES.items():
+            for name, methods in listed.items():
+                made = getattr(module_of(file), name)
+                self.assertTrue(inspect.isclass(made))
+                self.assertEqual(made.__module__, "untriedways." + file)
+                for method, told in methods.items():
+                    self.assertIn(method, vars(made))
+                    parameters = inspect.signature(vars(made)[method]).parameters
+                    self.assertEqual(list(parameters), ["self", *told])
+
+    def test_errors_stand_in_their_file(self):
+        errors = module_of("errors")
+        for name, value in vars(errors).items():
+            if inspect.isclass(value):
+                self.assertEqual(value.__module__, "untriedways.errors")

@@ -1,0 +1,1 @@
+"""Untriedways: how many lives it takes to come home on arrows that nobody has tried."""
