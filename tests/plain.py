@@ -4,7 +4,7 @@ It shares no code with the package: places are joined by listing every way that
 comes to no place twice, and every set of arrows is tried as a world.
 """
 
-from itertools import chain, combinations
+from itertools import chain, combinations, permutations, product
 
 
 def lots_of(many):
@@ -134,3 +134,66 @@ class PlainMap:
             for arrow in range(len(self.arrows))
             if arrow not in rotten and not any(arrow in world for world in fitting)
         )
+
+    def behind(self, standing, pairs):
+        """The standing behind an evening with these answers, None if there is none."""
+        reached, rotten = standing
+        heads = [self.arrows[arrow][1] for arrow, sound in pairs if sound]
+        lost = [arrow for arrow, sound in pairs if not sound]
+        found = (tuple(sorted({*reached, *heads})), tuple(sorted({*rotten, *lost})))
+        return found if self.is_standing(*found) else None
+
+    def answers(self, lot):
+        """All answers that one might think of."""
+        return [tuple(zip(lot, flags)) for flags in product((False, True), repeat=len(lot))]
+
+    def possible(self, standing, lot):
+        """All answers that can be, with the standing behind them."""
+        told = [(pairs, self.behind(standing, pairs)) for pairs in self.answers(lot)]
+        return [(pairs, behind) for pairs, behind in told if behind is not None]
+
+    def crowds(self, standing):
+        """All lots of one or more tries."""
+        tried = self.tries(standing)
+        return [tuple(tried[k] for k in lot) for lot in lots_of(len(tried)) if lot]
+
+    def is_part(self, order, arrows):
+        if order[0] != 0 or not set(self.goals) <= set(order):
+            return False
+        for arrow in arrows:
+            tail, head = self.arrows[arrow]
+            if tail not in order or head not in order or order.index(tail) >= order.index(head):
+                return False
+        tails = {self.arrows[arrow][0] for arrow in arrows}
+        heads = {self.arrows[arrow][1] for arrow in arrows}
+        return set(order[1:]) <= heads and set(order) - set(self.goals) <= tails
+
+    def parts(self):
+        """All parts, by trying all lots of arrows with all orders of all lots of places."""
+        others = range(1, self.many)
+        orders = [(0, *rest) for size in range(self.many) for rest in permutations(others, size)]
+        lots = lots_of(len(self.arrows))
+        return [(order, lot) for order in orders for lot in lots if self.is_part(order, lot)]
+
+    def ways(self):
+        found = [way for goal in self.goals for way in self.leads(0, goal, (), self.all_places)]
+        return sorted(found)
+
+
+def greatest_excess(many, arrows, goals):
+    """The greatest excess of any part, and the lots of places that have it, by all orders.
+
+    In each order all arrows that lead on are taken: more arrows never do harm there.
+    """
+    found = {}
+    for size in range(1, many):
+        for rest in permutations(range(1, many), size):
+            order = (0, *rest)
+            if set(goals) <= set(order):
+                at = {place: k for k, place in enumerate(order)}
+                onward = [pair for pair in arrows if at.get(pair[0], many) < at.get(pair[1], -1)]
+                heads = {head for _, head in onward}
+                tails = {tail for tail, _ in onward}
+                if set(rest) <= heads and set(order) - set(goals) <= tails:
+                    found.setdefault(len(onward) - len(order) + 1, set()).add(tuple(sorted(order)))
+    return max(found), sorted(found[max(found)])

@@ -18,10 +18,46 @@ FUNCTIONS = {
         "dead_end": ["chart", "standing", "place"],
         "world_with": ["chart", "standing", "arrow", "sound"],
     },
+    "runs": {"run_fault": ["chart", "thing"], "run_standing": ["chart", "run"]},
+    "plans": {"walk": ["chart", "world", "plan"], "sent_by": ["chart", "name", "standing"]},
+    "parts": {
+        "worst": ["chart"],
+        "excess": ["thing"],
+        "part": ["chart"],
+        "part_fault": ["chart", "thing"],
+        "greatest_lots": ["chart"],
+        "turned": ["chart"],
+        "on_ways": ["chart"],
+    },
+    "foes": {"led_by_foe": ["chart", "part", "plan"]},
 }
 
 CLASSES = {
     "maps": {"Map": {"__init__": ["many", "arrows", "goals"], "many": [], "arrows": [], "goals": []}},
+    "runs": {
+        "Party": {
+            "__init__": ["chart", "world"],
+            "send": ["lot"],
+            "standing": [],
+            "run": [],
+            "lost": [],
+            "evenings": [],
+            "sensible": [],
+            "back": [],
+            "copy": [],
+        },
+    },
+    "foes": {
+        "Foe": {
+            "__init__": ["chart", "part", "most"],
+            "hear": ["lot"],
+            "standing": [],
+            "run": [],
+            "lost": [],
+            "back": [],
+            "world": [],
+        },
+    },
 }
 
 

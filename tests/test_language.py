@@ -1,6 +1,7 @@
 """The rules of the language that can be seen at a glance, for all files of the package."""
 
 import ast
+import builtins
 import pathlib
 import unittest
 
@@ -15,6 +16,11 @@ BANNED = (
     ast.TryStar,
 )
 NEVER_CALLED = {"eval", "exec", "open", "input", "print", "vars", "globals", "hash", "id", "callable"}
+NEVER_NAMED = {"register", "mro", "elements", "open", "input", "law", "version_info"}
+DOUBLED = {"__init__", "__eq__"}
+# Of builtin values; all that the package needs of L25.
+METHODS = set("append extend get index items pop reverse setdefault update values bit_length split join".split())
+BUILTIN_METHODS = {name for kind in (int, str, list, dict, tuple, set) for name in dir(kind)}
 # As a class has an own ==, these take a list in the place of a generator expression.
 TAKE_LISTS = {"any", "all", "min", "max", "sum", "sorted"}
 
@@ -88,3 +94,81 @@ class LanguageTest(unittest.TestCase):
         if node.func.id in TAKE_LISTS:
             for argument in node.args:
                 self.assertNotIsInstance(argument, ast.GeneratorExp, (path, node.lineno))
+
+    def test_no_name_hides_an_import_a_class_or_a_builtin(self):
+        for path, tree in trees():
+            taken = set(dir(builtins)) | NEVER_NAMED
+            for node in tree.body:
+                if isinstance(node, ast.ImportFrom):
+                    taken.update(alias.name for alias in node.names)
+                if isinstance(node, (ast.ClassDef, ast.FunctionDef)):
+                    self.assertNotIn(node.name, dir(builtins), path)
+                    taken.add(node.name)
+            for node in ast.walk(tree):
+                if isinstance(node, ast.arg):
+                    self.assertNotIn(node.arg, taken - {"part"}, (path, node.lineno))
+                if isinstance(node, ast.Name) and isinstance(node.ctx, ast.Store):
+                    self.assertNotIn(node.id, taken, (path, node.lineno))
+
+    def test_a_lone_underscore_is_never_read(self):
+        for path, tree in trees():
+            for node in ast.walk(tree):
+                if isinstance(node, ast.Name) and node.id == "_":
+                    self.assertIsInstance(node.ctx, ast.Store, (path, node.lineno))
+
+    def test_is_stands_beside_none_and_flags(self):
+        for path, tree in trees():
+            for node in ast.walk(tree):
+                if isinstance(node, ast.Compare) and isinstance(node.ops[0], (ast.Is, ast.IsNot)):
+                    right = node.comparators[0]
+                    self.assertTrue(isinstance(right, ast.Constant) and right.value in (None, True, False), path)
+
+    def test_sets_are_measured_or_sorted_on_the_spot(self):
+        for path, tree in trees():
+            right = set()
+            for node in ast.walk(tree):
+                if isinstance(node, ast.Call) and isinstance(node.func, ast.Name) and node.func.id in ("len", "sorted"):
+                    right.update(id(argument) for argument in node.args)
+                named = isinstance(node, ast.Call) and isinstance(node.func, ast.Name) and node.func.id == "set"
+                if named or isinstance(node, (ast.Set, ast.SetComp)):
+                    self.assertIn(id(node), right, (path, node.lineno))
+
+    def test_methods(self):
+        own = set()
+        for _, tree in trees():
+            for node in ast.walk(tree):
+                if isinstance(node, ast.ClassDef):
+                    own.update(one.name for one in node.body if isinstance(one, ast.FunctionDef))
+        for path, tree in trees():
+            for node in ast.walk(tree):
+                if isinstance(node, ast.Attribute) and node.attr in BUILTIN_METHODS:
+                    self.assertIn(node.attr, METHODS | own | DOUBLED, (path, node.lineno))
+
+    def test_classes(self):
+        for path, tree in trees():
+            for node in tree.body:
+                if isinstance(node, ast.ClassDef):
+                    self.one_class(path, node)
+
+    def one_class(self, path, node):
+        methods = [one.name for one in node.body if isinstance(one, ast.FunctionDef)]
+        self.assertEqual(len(methods), len(set(methods)), (path, node.name))
+        for name in methods:
+            self.assertFalse(name.startswith("__") and name not in DOUBLED, (path, name))
+        stored = {
+            one.attr
+            for one in ast.walk(node)
+            if isinstance(one, ast.Attribute) and isinstance(one.ctx, ast.Store)
+        }
+        self.assertEqual(stored & set(methods), set(), (path, node.name))
+
+    def test_no_file_imports_from_one_that_imports_from_it(self):
+        needs = {}
+        for path, tree in trees():
+            modules = [node.module for node in tree.body if isinstance(node, ast.ImportFrom)]
+            needs[path.stem] = [module.split(".")[1] for module in modules if "." in module]
+        while needs:
+            free = [name for name in needs if not set(needs[name]) & set(needs)]
+            self.assertTrue(free, needs)
+            for name in free:
+                del needs[name]

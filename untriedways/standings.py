@@ -1,4 +1,7 @@
-"""Standings: which places are reached, and which arrows are found rotten."""
+"""Standings: which places are reached, and which arrows are found rotten.
+
+The functions whose names end in _at take what is known to be a standing of the map.
+"""
 
 from untriedways.errors import NoArrow, NoNews, NoPlace, NoStanding, NoTry
 from untriedways.maps import goals_are_open
@@ -33,6 +36,11 @@ def check_standing(chart, thing):
 def is_done(chart, standing):
     """Whether all goals are reached."""
     check_standing(chart, standing)
+    return done_at(chart, standing)
+
+
+def done_at(chart, standing):
+    """Whether all goals are reached."""
     reached, _ = standing
     inside = marks(chart.many(), reached)
     return all([inside[goal] for goal in chart.goals()])
@@ -41,6 +49,11 @@ def is_done(chart, standing):
 def alive(chart, standing):
     """The lot of the places that are alive."""
     check_standing(chart, standing)
+    return alive_at(chart, standing)
+
+
+def alive_at(chart, standing):
+    """The lot of the places that are alive."""
     steps = steps_to_go(chart, standing)
     return tuple([place for place in range(chart.many()) if steps[place] is not None])
 
@@ -48,6 +61,11 @@ def alive(chart, standing):
 def tries(chart, standing):
     """The lot of the arrows, not found rotten, from reached places to unreached ones."""
     check_standing(chart, standing)
+    return tries_at(chart, standing)
+
+
+def tries_at(chart, standing):
+    """The lot of the arrows, not found rotten, from reached places to unreached ones."""
     reached, rotten = standing
     inside = marks(chart.many(), reached)
     gone = marks(len(chart.arrows()), rotten)
@@ -60,7 +78,13 @@ def tries(chart, standing):
 
 def worth(chart, standing):
     """The lot of the tries that lead to places that are alive."""
-    tried = tries(chart, standing)
+    check_standing(chart, standing)
+    return worth_at(chart, standing)
+
+
+def worth_at(chart, standing):
+    """The lot of the tries that lead to places that are alive."""
+    tried = tries_at(chart, standing)
     steps = steps_to_go(chart, standing)
     arrows = chart.arrows()
     return tuple([arrow for arrow in tried if steps[arrows[arrow][1]] is not None])
@@ -68,19 +92,30 @@ def worth(chart, standing):
 
 def news(chart, standing, arrow, sound):
     """The standing behind the news that this try is sound, or rotten."""
-    tried = tries(chart, standing)
-    if not is_index(arrow, len(chart.arrows())) or arrow not in tried:
-        raise NoTry()
+    check_standing(chart, standing)
+    check_try(chart, standing, arrow)
     if not is_flag(sound):
         raise NoNews()
+    behind = news_at(chart, standing, arrow, sound)
+    if behind is None:
+        raise NoNews()
+    return behind
+
+
+def check_try(chart, standing, thing):
+    """Refuses what is not a try of the standing."""
+    if not is_index(thing, len(chart.arrows())) or thing not in tries_at(chart, standing):
+        raise NoTry()
+
+
+def news_at(chart, standing, arrow, sound):
+    """The standing behind the news that this try is sound, or rotten; None if there is none."""
     reached, rotten = standing
     if sound:
         _, head = chart.arrows()[arrow]
         return (with_item(reached, head), rotten)
     lost = with_item(rotten, arrow)
-    if not goals_are_open(chart, lost):
-        raise NoNews()
-    return (reached, lost)
+    return (reached, lost) if goals_are_open(chart, lost) else None
 
 
 def way_on(chart, standing, place):
@@ -89,7 +124,7 @@ def way_on(chart, standing, place):
     steps = steps_to_go(chart, standing)
     if steps[place] is None:
         return None
-    onward = _arrows_nearer(chart, standing, steps)
+    onward = arrows_nearer(chart, standing, steps)
     way = []
     at = place
     while steps[at] > 0:
@@ -154,6 +189,18 @@ def steps_to_go(chart, standing):
     return steps_from(chart.many(), turned, goals)
 
 
+def arrows_nearer(chart, standing, steps):
+    """A dict: for each place that is alive, but the goals, an arrow to a nearer one."""
+    _, rotten = standing
+    gone = marks(len(chart.arrows()), rotten)
+    onward = {}
+    for arrow, (tail, head) in enumerate(chart.arrows()):
+        both = steps[tail] is not None and steps[head] is not None
+        if both and not gone[arrow] and steps[head] == steps[tail] - 1:
+            onward.setdefault(tail, arrow)
+    return onward
+
+
 def _check_unreached(chart, standing, place):
     check_standing(chart, standing)
     reached, _ = standing
@@ -175,18 +222,6 @@ def _unreached_pairs(chart, standing):
     inside = marks(chart.many(), reached)
     left = pairs_left(chart.arrows(), rotten)
     return [(tail, head) for tail, head in left if not inside[tail] and not inside[head]]
-
-
-def _arrows_nearer(chart, standing, steps):
-    """A dict: for each place that is alive, but the goals, an arrow to a nearer one."""
-    _, rotten = standing
-    gone = marks(len(chart.arrows()), rotten)
-    onward = {}
-    for arrow, (tail, head) in enumerate(chart.arrows()):
-        both = steps[tail] is not None and steps[head] is not None
-        if both and not gone[arrow] and steps[head] == steps[tail] - 1:
-            onward.setdefault(tail, arrow)
-    return onward
 
 
 def _one_into_each(chart, rotten):

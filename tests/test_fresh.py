@@ -1,0 +1,131 @@
+"""Promise [3]: what was returned and is changed changes no later answer; arguments stay as they were."""
+
+import copy
+import unittest
+
+from untriedways.foes import Foe, led_by_foe
+from untriedways.maps import Map
+from untriedways.parts import excess, greatest_lots, on_ways, part, part_fault, turned, worst
+from untriedways.plans import sent_by, walk
+from untriedways.runs import Party, run_fault, run_standing
+from untriedways.standings import worth
+from tests.samples import EXAMPLE
+
+RUN = [((0, False), (1, True)), ((3, True), (5, True))]
+
+
+def sensible(chart):
+    return lambda standing: worth(chart, standing)
+
+
+def single(chart):
+    return lambda standing: worth(chart, standing)[:1]
+
+
+def late(chart):
+    """A plan for news that come late."""
+    return lambda standing, sent: tuple(arrow for arrow in worth(chart, standing) if arrow not in sent)
+
+
+# Functions of a map, and what is passed behind it (a function of the map, where it needs the map).
+CALLS = [
+    (run_fault, lambda chart: (copy.deepcopy(RUN),)),
+    (run_fault, lambda chart: ([[(0, True)]],)),
+    (run_standing, lambda chart: (copy.deepcopy(RUN),)),
+    (walk, lambda chart: ((0, 4), sensible(chart))),
+    (walk, lambda chart: ((0, 4), single(chart))),
+    (sent_by, lambda chart: ("near", ((0,), ()))),
+    (worst, lambda chart: ()),
+    (part, lambda chart: ()),
+    (part_fault, lambda chart: (part(chart),)),
+    (part_fault, lambda chart: ([[0, 1], {2: 3}],)),
+    (greatest_lots, lambda chart: ()),
+    (on_ways, lambda chart: ()),
+    (led_by_foe, lambda chart: (part(chart), sensible(chart))),
+]
+
+
+def kinds(value):
+    """The value with the kinds of all that is in it, so that True and 1 differ."""
+    if isinstance(value, (list, tuple)):
+        return (type(value), [kinds(item) for item in value])
+    if isinstance(value, dict):
+        return (dict, sorted((kinds(key), kinds(value[key])) for key in value))
+    return (str(type(value)), value)
+
+
+def spoil(value):
+    """Changes every list and dict that is in the value."""
+    if isinstance(value, (list, tuple)):
+        for item in value:
+            spoil(item)
+    if isinstance(value, dict):
+        for key in value:
+            spoil(value[key])
+        value.clear()
+        value["spoiled"] = "spoiled"
+    if isinstance(value, list):
+        value.clear()
+        value.append("spoiled")
+
+
+class FreshTest(unittest.TestCase):
+    def test_results_may_be_changed(self):
+        chart = Map(*EXAMPLE)
+        for call, make in CALLS:
+            with self.subTest(call=call.__name__):
+                first = call(chart, *make(chart))
+                before = str(kinds(first))
+                spoil(first)
+                self.assertEqual(str(kinds(call(chart, *make(chart)))), before)
+                self.assertEqual(str(kinds(call(Map(*EXAMPLE), *make(chart)))), before)
+                self.assertTrue(chart == Map(*EXAMPLE))
+
+    def test_arguments_stay_as_they_were(self):
+        chart = Map(*EXAMPLE)
+        for call, make in CALLS:
+            told = [value for value in make(chart)]
+            before = [value if callable(value) else copy.deepcopy(value) for value in told]
+            call(chart, *told)
+            self.assertEqual(told, before)
+
+    def test_the_run_of_a_party(self):
+        chart = Map(*EXAMPLE)
+        party = Party(chart, (0, 4))
+        party.send((0, 1))
+        other = party.copy()
+        run = party.run()
+        run.append(((3, True),))
+        run[0] = ()
+        self.assertEqual(party.run(), RUN[:1])
+        self.assertEqual(other.run(), RUN[:1])
+        self.assertEqual((party.lost(), party.evenings(), party.sensible()), (1, 1, True))
+        party.run().clear()
+        self.assertIs(party.back(), True)
+        self.assertIs(party.back(), False)
+        self.assertIsNot(other.run(), other.run())
+
+    def test_the_run_of_a_foe(self):
+        chart = Map(*EXAMPLE)
+        foe = Foe(chart, part(chart), None)
+        foe.hear((0, 1))
+        before = foe.run()
+        foe.run().clear()
+        self.assertEqual(foe.run(), before)
+        self.assertIs(foe.back(), True)
+
+    def test_a_run_that_was_handed_in(self):
+        chart = Map(*EXAMPLE)
+        run = copy.deepcopy(RUN)
+        self.assertEqual(run_standing(chart, run), ((0, 1, 2, 3), (0,)))
+        self.assertEqual(run, RUN)
+
+    def test_excess_leaves_what_it_is_of(self):
+        value = (([0],), ([1], {2: 3}))
+        self.assertEqual(excess(value), 2)
+        self.assertEqual(value, (([0],), ([1], {2: 3})))
+
+    def test_a_map_stays_when_it_is_turned(self):
+        chart = Map(*EXAMPLE)
+        turned(chart)
+        self.assertTrue(chart == Map(*EXAMPLE))
