@@ -3,12 +3,16 @@
 import copy
 import unittest
 
+from untriedways.evenings import evening_fault, evening_table, evenings, longest
 from untriedways.foes import Foe, led_by_foe
+from untriedways.latenews import late_walk, worst_among
+from untriedways.ledgers import gifts, ledger, run_part
 from untriedways.maps import Map
 from untriedways.parts import excess, greatest_lots, on_ways, part, part_fault, turned, worst
 from untriedways.plans import sent_by, walk
 from untriedways.runs import Party, run_fault, run_standing
 from untriedways.standings import worth
+from untriedways.tables import left, rest_map, table, table_fault
 from tests.samples import EXAMPLE
 
 RUN = [((0, False), (1, True)), ((3, True), (5, True))]
@@ -42,6 +46,20 @@ CALLS = [
     (greatest_lots, lambda chart: ()),
     (on_ways, lambda chart: ()),
     (led_by_foe, lambda chart: (part(chart), sensible(chart))),
+    (left, lambda chart: (((0,), ()),)),
+    (table, lambda chart: ()),
+    (table_fault, lambda chart: (3, table(chart))),
+    (table_fault, lambda chart: (3, {((0,), ()): [1]})),
+    (ledger, lambda chart: (copy.deepcopy(RUN),)),
+    (gifts, lambda chart: (((0,), ()), 0)),
+    (run_part, lambda chart: (copy.deepcopy(RUN),)),
+    (longest, lambda chart: ()),
+    (evenings, lambda chart: (2,)),
+    (evening_table, lambda chart: (2,)),
+    (evening_fault, lambda chart: (2, evening_table(chart, 2))),
+    (evening_fault, lambda chart: (2, {((0,), ()): [1, [0]]})),
+    (late_walk, lambda chart: ((0, 4), late(chart), 2)),
+    (worst_among, lambda chart: (1,)),
 ]
 
 
@@ -125,7 +143,10 @@ class FreshTest(unittest.TestCase):
         self.assertEqual(excess(value), 2)
         self.assertEqual(value, (([0],), ([1], {2: 3})))
 
-    def test_a_map_stays_when_it_is_turned(self):
+    def test_maps_that_are_made_of_a_map(self):
         chart = Map(*EXAMPLE)
-        turned(chart)
+        self.assertTrue(turned(chart) == turned(chart))
+        one, other = (rest_map(chart, ((0, 1), (1,))) for _ in range(2))
+        self.assertTrue(one[0] == other[0])
+        self.assertEqual(one[1:], other[1:])
         self.assertTrue(chart == Map(*EXAMPLE))

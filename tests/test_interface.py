@@ -30,6 +30,24 @@ FUNCTIONS = {
         "on_ways": ["chart"],
     },
     "foes": {"led_by_foe": ["chart", "part", "plan"]},
+    "tables": {
+        "rest_map": ["chart", "standing"],
+        "left": ["chart", "standing"],
+        "table": ["chart"],
+        "table_fault": ["chart", "lives", "thing"],
+    },
+    "ledgers": {
+        "ledger": ["chart", "run"],
+        "gifts": ["chart", "standing", "arrow"],
+        "run_part": ["chart", "run"],
+    },
+    "evenings": {
+        "longest": ["chart"],
+        "evenings": ["chart", "people"],
+        "evening_table": ["chart", "people"],
+        "evening_fault": ["chart", "people", "thing"],
+    },
+    "latenews": {"late_walk": ["chart", "world", "plan", "late"], "worst_among": ["chart", "most"]},
 }
 
 CLASSES = {
