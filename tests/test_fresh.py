@@ -3,18 +3,25 @@
 import copy
 import unittest
 
+from untriedways.chances import mean, mean_of, world_chance
 from untriedways.evenings import evening_fault, evening_table, evenings, longest
 from untriedways.foes import Foe, led_by_foe
+from untriedways.knowing import facts_needed, lives_with, plan_fault, plan_with
 from untriedways.latenews import late_walk, worst_among
 from untriedways.ledgers import gifts, ledger, run_part
 from untriedways.maps import Map
 from untriedways.parts import excess, greatest_lots, on_ways, part, part_fault, turned, worst
 from untriedways.plans import sent_by, walk
+from untriedways.prices import cheapest, price_table
 from untriedways.runs import Party, run_fault, run_standing
 from untriedways.standings import worth
 from untriedways.tables import left, rest_map, table, table_fault
+from untriedways.wholeways import met_by, ways, ways_enough
 from tests.samples import EXAMPLE
 
+FACTS = (((0, False), (4, False)), ((1, True), (5, True)), ((0, False), (4, False)))
+PRICES = (3, 0, 7, 2, 9, 5)
+CHANCES = ((1, 2), (2, 3), (1, 4), (3, 5), (1, 2), (9, 10))
 RUN = [((0, False), (1, True)), ((3, True), (5, True))]
 
 
@@ -60,6 +67,20 @@ CALLS = [
     (evening_fault, lambda chart: (2, {((0,), ()): [1, [0]]})),
     (late_walk, lambda chart: ((0, 4), late(chart), 2)),
     (worst_among, lambda chart: (1,)),
+    (ways, lambda chart: ()),
+    (met_by, lambda chart: ([(0, 4), (1, 5)], 2)),
+    (met_by, lambda chart: (ways(chart), 4)),
+    (ways_enough, lambda chart: (1,)),
+    (lives_with, lambda chart: (FACTS,)),
+    (plan_with, lambda chart: (FACTS,)),
+    (plan_fault, lambda chart: (FACTS, 3, plan_with(chart, FACTS))),
+    (plan_fault, lambda chart: (FACTS, 3, {(((0,), ()), ()): [1, 0]})),
+    (facts_needed, lambda chart: (FACTS,)),
+    (cheapest, lambda chart: (PRICES,)),
+    (price_table, lambda chart: (PRICES,)),
+    (mean, lambda chart: (CHANCES,)),
+    (mean_of, lambda chart: (CHANCES, sensible(chart))),
+    (world_chance, lambda chart: (CHANCES,)),
 ]
 
 

@@ -48,6 +48,23 @@ FUNCTIONS = {
         "evening_fault": ["chart", "people", "thing"],
     },
     "latenews": {"late_walk": ["chart", "world", "plan", "late"], "worst_among": ["chart", "most"]},
+    "wholeways": {
+        "ways": ["chart"],
+        "met_by": ["chart", "lot", "most"],
+        "ways_enough": ["chart", "most"],
+    },
+    "knowing": {
+        "lives_with": ["chart", "facts"],
+        "plan_with": ["chart", "facts"],
+        "plan_fault": ["chart", "facts", "lives", "thing"],
+        "facts_needed": ["chart", "facts"],
+    },
+    "prices": {"cheapest": ["chart", "prices"], "price_table": ["chart", "prices"]},
+    "chances": {
+        "mean": ["chart", "chances"],
+        "mean_of": ["chart", "chances", "plan"],
+        "world_chance": ["chart", "chances"],
+    },
 }
 
 CLASSES = {

@@ -70,6 +70,13 @@ class LanguageTest(unittest.TestCase):
                     if node.module not in LIBRARY:
                         self.imported(path, node)
 
+    def test_imports_are_used(self):
+        for path, tree in trees():
+            read = {node.id for node in ast.walk(tree) if isinstance(node, ast.Name)}
+            for node in tree.body:
+                if isinstance(node, ast.ImportFrom):
+                    self.assertLessEqual({alias.name for alias in node.names}, read, path)
+
     def imported(self, path, node):
         package, _, file = node.module.partition(".")
         self.assertEqual(package, "untriedways", path)

@@ -23,7 +23,6 @@ class Small:
 
     def __init__(self, chart):
         check_few(chart)
-        self._chart = chart
         self._pairs = chart.arrows()
         self._ends = packed(chart.goals())
         lots = range(1 << len(self._pairs))

@@ -102,7 +102,8 @@ def _news_from_begin(chart):
     while layer:
         fresh = []
         for standing in layer:
-            for _, _, behind in found[standing]:
+            told = found[standing]
+            for _, _, behind in told:
                 if behind not in found:
                     found[behind] = worth_news(chart, behind)
                     fresh.append(behind)
