@@ -144,7 +144,7 @@ class NoPlanTest(unittest.TestCase):
 
     def test_an_empty_one_behind_the_last_answer_to_come(self):
         chart = Map(2, ((0, 1),) * 3, (1,))
-        for late in range(1, 6):
+        for late in range(6):
             asked = []
 
             def plan(standing, sent):

@@ -71,10 +71,14 @@ class WaysTest(unittest.TestCase):
         self.too_many(great_map(1001, tuple((k, k + 1) for k in range(1000)) * 2, (1000,)))
 
     def test_dead_ends_cost_no_time(self):
-        # Among the places from 3 on there are very many paths, and none comes back.
-        dead = [(place, place + step) for place in range(3, 38) for step in (1, 2) if place + step < 32]
-        chart = Map(40, tuple(dead[:50]) + ((0, 3), (0, 1), (1, 3), (1, 2), (3, 0)), (2,))
-        self.assertEqual(ways(chart), [(51, 53)])
+        # Among the places from 3 on there are very many paths, and none leads on.
+        dead = tuple((place, place + 1) for place in range(3, 31) for _ in range(2))
+        chart = Map(40, dead + ((0, 3), (0, 1), (1, 3), (1, 2)), (2,))
+        self.assertEqual(ways(chart), [(57, 59)])
+        # All of them come back to where one has been.
+        chart = Map(40, dead + ((0, 1), (1, 2), (1, 3), (31, 1)), (2,))
+        self.assertEqual(ways(chart), [(56, 57)])
+        self.assertEqual(ways_enough(chart, 0), [(56, 57)])
         ring = [(place, other) for place in range(3, 10) for other in range(3, 10) if place != other]
         chart = Map(10, tuple(ring) + ((0, 3), (0, 1), (1, 3), (1, 2), (4, 1)), (2,))
         self.assertEqual(len(ways(chart)), 1 + self.paths_within(7))

@@ -89,7 +89,7 @@ def orders(core, spots):
     """A dict: for each set that can come first in an order of these spots, as a part has it,
     the tuple of the most arrows among them and the spot that comes last there.
     """
-    found = {1: (0, 0)}
+    found = {}
     layer = {1: 0}
     while layer:
         fresh = {}

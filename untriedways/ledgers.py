@@ -53,35 +53,26 @@ def _all_worth(chart, run, standings):
 def _ranks_by_run(chart, run, standings):
     """A dict from all places of a part to their ranks, by which they are put in order.
 
-    A rank is an evening and how near to a goal one is then. The part has the places that
-    were reached; those at which people were lost; and what lies on the shortest ways from
-    these to places that were reached later. Whoever was lost on the way to a place that was
-    never reached is made up for by the arrow at which such a way ends: so the evenings are
-    looked at from the last one on, and no way goes on where another one goes on already.
+    A rank is an evening and how near to a goal the place is at its begin. The part has all
+    places to which somebody was sent, and what lies on the shortest ways home from these.
+    Whoever was lost on the way to a place that was never reached is made up for by the arrow
+    by which the way from there comes to a place that has a rank already: so the evenings are
+    looked at from the last one on, and each way ends where another one goes on.
     """
     ranks = {0: (-1, 0)}
-    nearer = [steps_to_go(chart, standing) for standing in standings]
-    for k, pairs in enumerate(run):
-        for arrow, sound in pairs:
-            _, head = chart.arrows()[arrow]
-            if sound:
-                ranks[head] = (k, -nearer[k][head])
     for k in reversed(range(len(run))):
-        onward = arrows_nearer(chart, standings[k], nearer[k])
+        steps = steps_to_go(chart, standings[k])
+        onward = arrows_nearer(chart, standings[k], steps)
         for arrow, _ in run[k]:
             _, head = chart.arrows()[arrow]
-            _lead_home(chart, ranks, head, k, nearer[k], onward)
+            _lead_home(chart, ranks, head, k, steps, onward)
     return ranks
 
 
 def _lead_home(chart, ranks, head, k, steps, onward):
-    """Gives ranks to what lies on the way from the head to a place that has one."""
-    if head in ranks and ranks[head][0] > k:
-        return
-    ranks[head] = (k, -steps[head])
+    """Gives ranks to what lies on the way from the head to a place that has one, or to a goal."""
     at = head
-    while steps[at] > 0:
-        _, at = chart.arrows()[onward[at]]
-        if at in ranks:
-            return
+    while at not in ranks:
         ranks[at] = (k, -steps[at])
+        if steps[at] > 0:
+            _, at = chart.arrows()[onward[at]]
