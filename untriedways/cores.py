@@ -41,13 +41,13 @@ class Core:
         # For each spot the sets of the heads and the tails of the arrows from it and to it.
         self.outward = [0] * self.size
         self.inward = [0] * self.size
-        self.between = [[0] * self.size for _ in range(self.size)]
+        between = [[0] * self.size for _ in range(self.size)]
         for tail, head in chart.arrows():
             if tail in at and head in at:
                 self.outward[at[tail]] |= 1 << at[head]
                 self.inward[at[head]] |= 1 << at[tail]
-                self.between[at[head]][at[tail]] += 1
-        self.sums = [_sums(row) for row in self.between]
+                between[at[head]][at[tail]] += 1
+        self.sums = [_sums(row) for row in between]
 
     def places(self, spots):
         """The lot of the places of a set of spots."""

@@ -92,7 +92,8 @@ def _all_ways(chart, most):
         else:
             choices.pop()
             if way:
-                been[heads[way.pop()]] = False
+                last = way.pop()
+                been[heads[last]] = False
     return found
 
 
