@@ -3,9 +3,11 @@
 import copy
 import unittest
 
+from untriedways.base import Base
 from untriedways.chances import mean, mean_of, world_chance
 from untriedways.evenings import evening_fault, evening_table, evenings, longest
 from untriedways.foes import Foe, led_by_foe
+from untriedways.joined import behind, beside, lowers, raises, stack_longest, stack_ways, stack_worst
 from untriedways.knowing import facts_needed, lives_with, plan_fault, plan_with
 from untriedways.latenews import late_walk, worst_among
 from untriedways.ledgers import gifts, ledger, run_part
@@ -14,8 +16,10 @@ from untriedways.parts import excess, greatest_lots, on_ways, part, part_fault, 
 from untriedways.plans import sent_by, walk
 from untriedways.prices import cheapest, price_table
 from untriedways.runs import Party, run_fault, run_standing
-from untriedways.standings import worth
+from untriedways.standings import tries, worth
+from untriedways.strangers import judged, most_evenings, most_lost, refuted, spread, weighed_up, worst_worlds
 from untriedways.tables import left, rest_map, table, table_fault
+from untriedways.ties import on_tie_ways, tie_map, tie_part, tie_worst
 from untriedways.wholeways import met_by, ways, ways_enough
 from tests.samples import EXAMPLE
 
@@ -31,6 +35,10 @@ def sensible(chart):
 
 def single(chart):
     return lambda standing: worth(chart, standing)[:1]
+
+
+def foolish(chart):
+    return lambda standing: tries(chart, standing)[-1:]
 
 
 def late(chart):
@@ -81,6 +89,19 @@ CALLS = [
     (mean, lambda chart: (CHANCES,)),
     (mean_of, lambda chart: (CHANCES, sensible(chart))),
     (world_chance, lambda chart: (CHANCES,)),
+    (stack_worst, lambda chart: ()),
+    (stack_longest, lambda chart: ()),
+    (stack_ways, lambda chart: (3,)),
+    (raises, lambda chart: (0,)),
+    (lowers, lambda chart: (0,)),
+    (judged, lambda chart: (sensible(chart),)),
+    (judged, lambda chart: (foolish(chart),)),
+    (refuted, lambda chart: (1, sensible(chart))),
+    (most_lost, lambda chart: (single(chart),)),
+    (most_evenings, lambda chart: (single(chart),)),
+    (spread, lambda chart: (single(chart),)),
+    (weighed_up, lambda chart: (single(chart), foolish(chart))),
+    (worst_worlds, lambda chart: (foolish(chart),)),
 ]
 
 
@@ -164,9 +185,35 @@ class FreshTest(unittest.TestCase):
         self.assertEqual(excess(value), 2)
         self.assertEqual(value, (([0],), ([1], {2: 3})))
 
+    def test_ties(self):
+        ties = copy.deepcopy(EXAMPLE)
+        for call in (on_tie_ways, tie_worst, tie_part, tie_map):
+            self.assertTrue(call(*ties) == call(*copy.deepcopy(EXAMPLE)))
+            self.assertEqual(ties, EXAMPLE)
+
+    def test_a_stack(self):
+        one = Map(*EXAMPLE)
+        stack = ("behind", (one, ("beside", (one, one), 2)), 3)
+        for call, told in ((stack_worst, ()), (stack_longest, ()), (stack_ways, (1000,))):
+            self.assertEqual(call(stack, *told), call(stack, *told))
+        self.assertEqual(stack[0::2], ("behind", 3))
+        self.assertTrue(one == Map(*EXAMPLE))
+
+    def test_the_map_of_a_base(self):
+        chart = Map(*EXAMPLE)
+        base = Base(chart)
+        base.add(0, 3)
+        base.strike(0)
+        base.hear(6, False)
+        self.assertTrue(chart == Map(*EXAMPLE))
+        self.assertTrue(base.chart() == base.chart())
+        self.assertEqual(base.standing(), base.standing())
+
     def test_maps_that_are_made_of_a_map(self):
         chart = Map(*EXAMPLE)
         self.assertTrue(turned(chart) == turned(chart))
+        for join in (behind, beside):
+            self.assertTrue(join(chart, chart) == join(Map(*EXAMPLE), chart))
         one, other = (rest_map(chart, ((0, 1), (1,))) for _ in range(2))
         self.assertTrue(one[0] == other[0])
         self.assertEqual(one[1:], other[1:])

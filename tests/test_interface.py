@@ -65,6 +65,30 @@ FUNCTIONS = {
         "mean_of": ["chart", "chances", "plan"],
         "world_chance": ["chart", "chances"],
     },
+    "joined": {
+        "behind": ["one", "other"],
+        "beside": ["one", "other"],
+        "stack_worst": ["stack"],
+        "stack_longest": ["stack"],
+        "stack_ways": ["stack", "modulus"],
+        "raises": ["chart", "arrow"],
+        "lowers": ["chart", "arrow"],
+    },
+    "strangers": {
+        "judged": ["chart", "plan"],
+        "refuted": ["chart", "lives", "plan"],
+        "most_lost": ["chart", "plan"],
+        "most_evenings": ["chart", "plan"],
+        "spread": ["chart", "plan"],
+        "weighed_up": ["chart", "one", "other"],
+        "worst_worlds": ["chart", "plan"],
+    },
+    "ties": {
+        "tie_map": ["many", "ties", "goals"],
+        "on_tie_ways": ["many", "ties", "goals"],
+        "tie_worst": ["many", "ties", "goals"],
+        "tie_part": ["many", "ties", "goals"],
+    },
 }
 
 CLASSES = {
@@ -91,6 +115,20 @@ CLASSES = {
             "lost": [],
             "back": [],
             "world": [],
+        },
+    },
+    "base": {
+        "Base": {
+            "__init__": ["chart"],
+            "chart": [],
+            "standing": [],
+            "left": [],
+            "worth": [],
+            "hear": ["arrow", "sound"],
+            "add": ["tail", "head"],
+            "strike": ["arrow"],
+            "back": [],
+            "changes": [],
         },
     },
 }

@@ -19,7 +19,9 @@ NEVER_CALLED = {"eval", "exec", "open", "input", "print", "vars", "globals", "ha
 NEVER_NAMED = {"register", "mro", "elements", "open", "input", "law", "version_info"}
 DOUBLED = {"__init__", "__eq__"}
 # Of builtin values; all that the package needs of L25.
-METHODS = set("append extend get index items pop reverse setdefault update values bit_length split join".split())
+METHODS = set(
+    "append extend get index insert items pop reverse setdefault update values bit_length split join".split()
+)
 BUILTIN_METHODS = {name for kind in (int, str, list, dict, tuple, set) for name in dir(kind)}
 # As a class has an own ==, these take a list in the place of a generator expression.
 TAKE_LISTS = {"any", "all", "min", "max", "sum", "sorted"}

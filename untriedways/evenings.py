@@ -111,7 +111,7 @@ def _is_row(chart, key, row):
 def _comes_home(chart, standing, rows):
     """Whether all answers lead to standings that are done or have a lesser number."""
     number, lot = rows[standing]
-    for behind in standings_behind(chart, standing, lot):
+    for behind in standings_behind(chart, standing, lot, 1 << MOST_PEOPLE):
         if not done_at(chart, behind) and (behind not in rows or rows[behind][0] >= number):
             return False
     return True

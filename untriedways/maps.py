@@ -13,11 +13,8 @@ class Map:
     """Places, of which 0 is the start, arrows between them, and goals."""
 
     def __init__(self, many, arrows, goals):
-        if not is_integer(many) or not FEWEST_PLACES <= many <= MOST_PLACES:
-            raise NoMap("many")
-        if not _are_arrows(arrows, many):
-            raise NoMap("arrows")
-        if not _are_goals(goals, many, arrows):
+        check_pairs(many, arrows, MOST_ARROWS)
+        if not are_goals(goals, many, arrows):
             raise NoMap("goals")
         self._many = many
         self._arrows = arrows
@@ -63,20 +60,26 @@ def goals_are_open(chart, rotten):
     return leads_to_all(chart.many(), pairs_left(chart.arrows(), rotten), chart.goals())
 
 
-def _are_arrows(thing, many):
-    if not isinstance(thing, tuple) or len(thing) > MOST_ARROWS:
-        return False
-    return all([_is_pair(pair, many) for pair in thing])
+def check_pairs(many, pairs, most):
+    """Refuses a wrong number of places, then what is no tuple of at most so many pairs of them."""
+    if not is_integer(many) or not FEWEST_PLACES <= many <= MOST_PLACES:
+        raise NoMap("many")
+    if not isinstance(pairs, tuple) or len(pairs) > most:
+        raise NoMap("arrows")
+    if not all([is_pair(pair, many) for pair in pairs]):
+        raise NoMap("arrows")
 
 
-def _is_pair(thing, many):
+def is_pair(thing, many):
+    """Whether it is a pair of unlike places."""
     if not isinstance(thing, tuple) or len(thing) != 2:
         return False
     tail, head = thing
     return is_index(tail, many) and is_index(head, many) and tail != head
 
 
-def _are_goals(thing, many, arrows):
+def are_goals(thing, many, arrows):
+    """Whether it is a lot of one or more places, not the start, to each of which the arrows lead."""
     if not is_lot(thing, many) or len(thing) == 0 or thing[0] == 0:
         return False
     return leads_to_all(many, arrows, thing)

@@ -2,7 +2,7 @@
 
 from untriedways.maps import goals_are_open
 from untriedways.standings import tries_at
-from untriedways.values import is_lot, with_items
+from untriedways.values import is_lot, with_item, with_items
 
 
 def are_tries(chart, standing, thing):
@@ -24,13 +24,48 @@ def standing_behind(chart, standing, pairs):
     return behind
 
 
-def standings_behind(chart, standing, lot):
-    """The list of the standings behind these tries, one for all answers that can be."""
-    runs = [()]
-    for arrow in lot:
-        runs = [(*pairs, (arrow, sound)) for pairs in runs for sound in (False, True)]
-    found = [standing_behind(chart, standing, pairs) for pairs in runs]
-    return [behind for behind in found if behind is not None]
+def standings_behind(chart, standing, lot, most):
+    """The list of the standings behind these tries, one for all answers that can be.
+
+    If there are more than so many it is a list of some, but still of more than so many.
+    """
+    lots = _losses(chart, standing, (), lot, most)
+    return [_behind_losses(chart, standing, lot, lost) for lost in lots]
+
+
+def open_standings_behind(chart, standing, lot, most):
+    """As standings_behind, but only of those standings that are not done."""
+    reached, _ = standing
+    heads = {arrow: chart.arrows()[arrow][1] for arrow in lot}
+    found = {}
+    for goal in chart.goals():
+        first = tuple([arrow for arrow in lot if heads[arrow] == goal])
+        others = [arrow for arrow in lot if heads[arrow] != goal]
+        if goal not in reached:
+            for lost in _losses(chart, standing, first, others, most):
+                found[_behind_losses(chart, standing, lot, lost)] = True
+    return list(found)
+
+
+def _losses(chart, standing, first, others, most):
+    """The list of all lots that may be lost: the first ones, and any of the others.
+
+    As soon as there are more than so many, all others that are left are taken for sound.
+    """
+    _, rotten = standing
+    found = [first] if goals_are_open(chart, with_items(rotten, first)) else []
+    for arrow in others:
+        if len(found) <= most:
+            more = [with_item(lost, arrow) for lost in found]
+            found.extend([lost for lost in more if goals_are_open(chart, with_items(rotten, lost))])
+    return found
+
+
+def _behind_losses(chart, standing, lot, lost):
+    """The standing behind the lot if just these were lost."""
+    reached, rotten = standing
+    heads = [chart.arrows()[arrow][1] for arrow in lot if arrow not in lost]
+    return (with_items(reached, heads), with_items(rotten, lost))
 
 
 def lost_in(pairs):

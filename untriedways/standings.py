@@ -24,7 +24,7 @@ def is_standing(chart, thing):
     inside = marks(chart.many(), reached)
     if not inside[0] or not all([inside[chart.arrows()[arrow][0]] for arrow in rotten]):
         return False
-    return _holds_together(chart, reached, rotten) and goals_are_open(chart, rotten)
+    return holds_together(chart, reached, rotten) and goals_are_open(chart, rotten)
 
 
 def check_standing(chart, thing):
@@ -93,6 +93,11 @@ def worth_at(chart, standing):
 def news(chart, standing, arrow, sound):
     """The standing behind the news that this try is sound, or rotten."""
     check_standing(chart, standing)
+    return checked_news_at(chart, standing, arrow, sound)
+
+
+def checked_news_at(chart, standing, arrow, sound):
+    """The standing behind the news; refuses what is no try, no flag, or cannot be."""
     check_try(chart, standing, arrow)
     if not is_flag(sound):
         raise NoNews()
@@ -164,7 +169,7 @@ def world_with(chart, standing, arrow, sound):
         return rotten
     # Fewer rotten arrows are never in the way: if these are too many, so are all others.
     lost = with_item(rotten, arrow)
-    if _holds_together(chart, reached, lost) and goals_are_open(chart, lost):
+    if holds_together(chart, reached, lost) and goals_are_open(chart, lost):
         return lost
     return None
 
@@ -208,7 +213,7 @@ def _check_unreached(chart, standing, place):
         raise NoPlace()
 
 
-def _holds_together(chart, reached, rotten):
+def holds_together(chart, reached, rotten):
     """Whether one comes to all reached places through reached ones."""
     inside = marks(chart.many(), reached)
     left = pairs_left(chart.arrows(), rotten)
