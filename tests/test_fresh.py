@@ -5,20 +5,34 @@ import unittest
 
 from untriedways.base import Base
 from untriedways.chances import mean, mean_of, world_chance
+from untriedways.desk import Desk
+from untriedways.errors import WayError
 from untriedways.evenings import evening_fault, evening_table, evenings, longest
 from untriedways.foes import Foe, led_by_foe
 from untriedways.joined import behind, beside, lowers, raises, stack_longest, stack_ways, stack_worst
 from untriedways.knowing import facts_needed, lives_with, plan_fault, plan_with
 from untriedways.latenews import late_walk, worst_among
 from untriedways.ledgers import gifts, ledger, run_part
+from untriedways.makers import cook, cooked_by_foe
 from untriedways.maps import Map
 from untriedways.parts import excess, greatest_lots, on_ways, part, part_fault, turned, worst
 from untriedways.plans import sent_by, walk
 from untriedways.prices import cheapest, price_table
+from untriedways.recipes import (
+    Cookery,
+    kitchen_order,
+    recipe_bound,
+    recipe_news,
+    recipe_table,
+    recipe_tries,
+    recipe_worst,
+    serving,
+)
 from untriedways.runs import Party, run_fault, run_standing
 from untriedways.standings import tries, worth
 from untriedways.strangers import judged, most_evenings, most_lost, refuted, spread, weighed_up, worst_worlds
 from untriedways.tables import left, rest_map, table, table_fault
+from untriedways.texts import map_text, read_map, read_run, run_text
 from untriedways.ties import on_tie_ways, tie_map, tie_part, tie_worst
 from untriedways.wholeways import met_by, ways, ways_enough
 from tests.samples import EXAMPLE
@@ -26,6 +40,7 @@ from tests.samples import EXAMPLE
 FACTS = (((0, False), (4, False)), ((1, True), (5, True)), ((0, False), (4, False)))
 PRICES = (3, 0, 7, 2, 9, 5)
 CHANCES = ((1, 2), (2, 3), (1, 4), (3, 5), (1, 2), (9, 10))
+COOKERY = (4, (0,), (((0,), 1), ((0,), 2), ((1,), 2), ((1, 2), 3), ((0, 1), 3)), (3,))
 RUN = [((0, False), (1, True)), ((3, True), (5, True))]
 
 
@@ -105,6 +120,24 @@ CALLS = [
 ]
 
 
+# Functions of a cookery, likewise.
+KITCHEN_CALLS = [
+    (serving, lambda cookery: (((0,), ()),)),
+    (recipe_tries, lambda cookery: (((0,), ()),)),
+    (recipe_news, lambda cookery: (((0,), ()), 1, False)),
+    (kitchen_order, lambda cookery: ()),
+    (recipe_bound, lambda cookery: ()),
+    (recipe_worst, lambda cookery: ()),
+    (recipe_table, lambda cookery: ()),
+    (cook, lambda cookery: ((1, 3), first_try(cookery))),
+    (cooked_by_foe, lambda cookery: (first_try(cookery),)),
+]
+
+
+def first_try(cookery):
+    return lambda standing: recipe_tries(cookery, standing)[0]
+
+
 def kinds(value):
     """The value with the kinds of all that is in it, so that True and 1 differ."""
     if isinstance(value, (list, tuple)):
@@ -148,6 +181,36 @@ class FreshTest(unittest.TestCase):
             before = [value if callable(value) else copy.deepcopy(value) for value in told]
             call(chart, *told)
             self.assertEqual(told, before)
+
+    def test_cookeries(self):
+        cookery = Cookery(*COOKERY)
+        for call, make in KITCHEN_CALLS:
+            told = make(cookery)
+            first = call(cookery, *told)
+            before = str(kinds(first))
+            spoil(first)
+            self.assertEqual(str(kinds(call(cookery, *told))), before)
+            self.assertEqual(str(kinds(call(Cookery(*COOKERY), *told))), before)
+            self.assertTrue(cookery == Cookery(*COOKERY))
+
+    def test_texts(self):
+        run = copy.deepcopy(RUN)
+        text = run_text(run)
+        self.assertEqual(run, RUN)
+        spoil(read_run(text))
+        spoil(read_run("none"))
+        self.assertEqual((read_run(text), read_run("none")), (RUN, []))
+        chart = Map(*EXAMPLE)
+        self.assertEqual(map_text(chart), map_text(chart))
+        self.assertTrue(read_map(map_text(chart)) == chart and chart == Map(*EXAMPLE))
+
+    def test_refused_values_stay_as_they_were(self):
+        value = [[(0, True)], {1: [2]}]
+        before = copy.deepcopy(value)
+        for call in (run_text, read_map, read_run, Desk(Map(*EXAMPLE)).tell, stack_worst):
+            with self.assertRaises(WayError):
+                call(value)
+            self.assertEqual(value, before)
 
     def test_the_run_of_a_party(self):
         chart = Map(*EXAMPLE)

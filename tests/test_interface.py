@@ -89,6 +89,25 @@ FUNCTIONS = {
         "tie_worst": ["many", "ties", "goals"],
         "tie_part": ["many", "ties", "goals"],
     },
+    "recipes": {
+        "serving": ["cookery", "standing"],
+        "recipe_tries": ["cookery", "standing"],
+        "recipe_news": ["cookery", "standing", "recipe", "sound"],
+        "kitchen_order": ["cookery"],
+        "recipe_bound": ["cookery"],
+        "recipe_worst": ["cookery"],
+        "recipe_table": ["cookery"],
+    },
+    "makers": {
+        "cook": ["cookery", "rotten", "maker"],
+        "cooked_by_foe": ["cookery", "maker"],
+    },
+    "texts": {
+        "map_text": ["chart"],
+        "run_text": ["run"],
+        "read_map": ["text"],
+        "read_run": ["text"],
+    },
 }
 
 CLASSES = {
@@ -131,6 +150,16 @@ CLASSES = {
             "changes": [],
         },
     },
+    "recipes": {
+        "Cookery": {
+            "__init__": ["many", "given", "recipes", "goals"],
+            "many": [],
+            "given": [],
+            "recipes": [],
+            "goals": [],
+        },
+    },
+    "desk": {"Desk": {"__init__": ["chart"], "tell": ["line"], "undoable": []}},
 }
 
 

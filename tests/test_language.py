@@ -20,7 +20,10 @@ NEVER_NAMED = {"register", "mro", "elements", "open", "input", "law", "version_i
 DOUBLED = {"__init__", "__eq__"}
 # Of builtin values; all that the package needs of L25.
 METHODS = set(
-    "append extend get index insert items pop reverse setdefault update values bit_length split join".split()
+    (
+        "append extend get index insert items pop reverse setdefault update values bit_length split join "
+        "replace startswith"
+    ).split()
 )
 BUILTIN_METHODS = {name for kind in (int, str, list, dict, tuple, set) for name in dir(kind)}
 # As a class has an own ==, these take a list in the place of a generator expression.
