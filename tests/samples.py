@@ -2,8 +2,12 @@
 
 from itertools import combinations_with_replacement, permutations
 
+from untriedways.base import Base
+from untriedways.desk import Desk
 from untriedways.errors import NoMap, NoStanding, WayError
 from untriedways.maps import Map
+from untriedways.recipes import Cookery
+from untriedways.runs import Party
 
 from tests.plain import PlainMap, lots_of
 
@@ -94,6 +98,11 @@ def odd_values():
         nested(30, lambda value: {0: value}),
         Map(2, ((0, 1),), (1,)),
         (Map(2, ((0, 1),), (1,)), ()),
+        Base(Map(2, ((0, 1),), (1,))),
+        Cookery(2, (0,), (((0,), 1),), (1,)),
+        [Desk(Map(2, ((0, 1),), (1,)))],
+        {Party(Map(2, ((0, 1),), (1,)), ()): 0},
+        {(Desk(Map(2, ((0, 1),), (1,))), ()): Cookery(2, (0,), (((0,), 1),), (1,))},
         WayError(),
         NoStanding(),
         NoMap("many"),

@@ -162,6 +162,14 @@ class NoPlanTest(unittest.TestCase):
         with self.assertRaises(NoPlan):
             cook(single(3), (0,), lambda standing: 0)
 
+    def test_a_flag_is_no_recipe_though_it_equals_one(self):
+        cookery = Cookery(*FOUR)
+        for flag in (True, False):
+            def maker(standing):
+                return flag if standing == ((0,), ()) else recipe_tries(cookery, standing)[0]
+
+            self.both(cookery, maker, NoPlan)
+
     def test_errors_of_its_own(self):
         for error in (OwnError, KeyError, ValueError, RecursionError, NoWorld, TooMany):
             def maker(standing):

@@ -2,7 +2,9 @@
 
 import random
 import unittest
+from unittest import mock
 
+from untriedways import strangers
 from untriedways.errors import NoNumber, NoPlan, TooMany
 from untriedways.maps import Map, great_map
 from untriedways.parts import part, worst
@@ -90,6 +92,34 @@ def plain_judged(plain, plan):
                 wrong = set(plan(standing)) - set(plain.worth(standing))
                 if wrong:
                     return (standing, min(wrong))
+    return None
+
+
+def plain_limited(plain, plan, most, strict):
+    """What a limit of so many standings makes of it: a name of an error, or what is found, or None."""
+    count = 0
+    seen = {((0,), ())}
+    layer = sorted(seen)
+    while layer:
+        count += len(layer)
+        found, fresh = None, set()
+        for standing in layer:
+            if plain.is_done(standing):
+                continue
+            lot = plan(standing)
+            if not lot or not set(lot) <= set(plain.tries(standing)):
+                return "NoPlan"
+            wrong = set(lot) - set(plain.worth(standing))
+            if strict and wrong:
+                found = (standing, min(wrong))
+                break
+            fresh.update(behind for _, behind in plain.possible(standing, lot))
+        if count > most:
+            return "TooMany"
+        if found:
+            return found
+        layer = sorted(fresh - seen)
+        seen |= fresh
     return None
 
 
@@ -309,6 +339,32 @@ class LimitTest(unittest.TestCase):
             else:
                 self.too_many(2000, judged, chart, plan)
             self.too_many(2000, most_lost, chart, plan)
+
+    def test_lesser_limits_against_a_plain_search(self):
+        # The same with other numbers in the place of 2000, for plans of all kinds, wrong ones too.
+        kinds = set()
+        for at, (chart, plain) in enumerate(some_maps()):
+            for seed in range(3):
+                right = some_plan(plain, seed, seed == 0)
+                dice = random.Random(str((at, seed)))
+                wrong = dice.sample(plain.standings(), dice.randint(0, 2))
+                plan = lambda standing: () if standing in wrong else right(standing)
+                for most in (1, 2, 3, 5, 8, 13, 2000):
+                    with mock.patch.object(strangers, "MOST_STANDINGS", most):
+                        for call in (judged, most_lost, most_evenings):
+                            told = plain_limited(plain, plan, most, call == judged)
+                            kinds.add(told if isinstance(told, str) else type(told))
+                            self.limited(chart, plan, call, told)
+        self.assertEqual(kinds, {"NoPlan", "TooMany", tuple, type(None)})
+
+    def limited(self, chart, plan, call, told):
+        if isinstance(told, str):
+            with self.assertRaises({"NoPlan": NoPlan, "TooMany": TooMany}[told]):
+                call(chart, plan)
+        elif call == judged:
+            self.assertEqual(judged(chart, plan), told)
+        else:
+            self.assertIsInstance(call(chart, plan), int)
 
     def test_not_sensible_at_the_begin(self):
         chart = great_map(3, ((0, 1),) * 60 + ((0, 2),), (1,))

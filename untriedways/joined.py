@@ -97,7 +97,7 @@ def _is_stack(thing, deep):
     if deep == 0 or not isinstance(thing, tuple) or len(thing) != 3:
         return False
     word, stacks, times = thing
-    if not isinstance(word, str) or word not in (BEHIND, BESIDE):
+    if word not in (BEHIND, BESIDE):
         return False
     if not isinstance(stacks, tuple) or not 1 <= len(stacks) <= MOST_STACKS:
         return False

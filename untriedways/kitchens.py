@@ -54,9 +54,9 @@ class Kitchen:
 
     def holds(self, made, rotten):
         """Whether it is a standing."""
-        # What is made beyond these things is of no use for them.
+        # Only by recipes for these very things, as they are made out of one another.
         inner = [(needs, thing) for needs, thing in self.rows_left(rotten) if made >> thing & 1]
-        if self.stock & made != self.stock or things_made(self.stock, inner) != made:
+        if things_made(self.stock, inner) != made:
             return False
         return all([self._has_all(made, recipe) for recipe in bits(rotten)]) and self.can_be(rotten)
 
