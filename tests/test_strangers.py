@@ -410,12 +410,93 @@ class LimitTest(unittest.TestCase):
         with self.assertRaises(NoPlan):
             most_lost(chart, plan(high, low))
 
+    def test_all_of_a_great_evening_are_asked(self):
+        # Behind the first evening 2 ** 17 - 1 standings, none of them done.
+        chart = great_map(3, ((0, 1),) * 17 + ((1, 2),), (2,))
+        last = ((0, 1), (16,))
+        for call in (judged, most_lost, most_evenings):
+            asked = []
+
+            def plan(standing):
+                asked.append(standing)
+                return () if standing == last else tuple(range(17)) if standing == ((0,), ()) else (17,)
+
+            with self.assertRaises(NoPlan):
+                call(chart, plan)
+            self.assertEqual(asked[-1], last)
+            self.assertEqual(len(asked), 2 ** 17)
+            self.assertEqual(asked, sorted(set(asked)))
+        self.too_many(2000, most_lost, chart, lambda standing: tuple(range(17)) if standing == ((0,), ()) else (17,))
+
+    def test_wrong_in_the_third_evening(self):
+        # Two standings behind the first evening, one with a great lot; it is wrong behind either one.
+        for places in (14, 18):
+            chart = Map(places, ((0, 1), (0, 1)) + tuple((0, place) for place in range(2, places)), (1,))
+            given = {((0,), ()): (2,), ((0, 2), ()): tuple(range(3, places)), ((0,), (2,)): (3,)}
+            late = ((0, 2, places - 1), tuple(range(3, places - 1)))
+            for wrong in (((0, 3), (2,)), ((0,), (2, 3)), late, None):
+                plan = lambda standing: () if standing == wrong else given.get(standing, (0,))
+                for call in (most_lost, most_evenings):
+                    if wrong:
+                        with self.assertRaises(NoPlan):
+                            call(chart, plan)
+                    else:
+                        self.too_many(2000, call, chart, plan)
+
+    def test_who_is_asked_in_an_evening_that_is_too_many(self):
+        kinds = set()
+        for at, (chart, plain) in enumerate(some_maps()):
+            for seed in range(3):
+                right = some_plan(plain, (at, seed), seed == 0)
+                for most in (1, 2, 4, 8):
+                    for call in (judged, most_lost, most_evenings):
+                        told, names = self.asked_by(call, chart, right, most)
+                        kinds.add(told)
+                        self.assertEqual(names, self.due(plain, right, most, call == judged))
+        self.assertEqual(kinds, {"TooMany", "other"})
+
+    def asked_by(self, call, chart, right, most):
+        """What comes of it, and at which standings the plan was asked, in turn."""
+        asked = []
+
+        def plan(standing):
+            asked.append(standing)
+            return right(standing)
+
+        with mock.patch.object(strangers, "MOST_STANDINGS", most):
+            try:
+                call(chart, plan)
+            except TooMany:
+                return ("TooMany", asked)
+        return ("other", asked)
+
+    def due(self, plain, plan, most, strict):
+        """All new standings that are not done, up to the end of the evening that is too many."""
+        count, asked = 0, []
+        for layer in plain_evenings(plain, plan):
+            count += len(layer)
+            for standing in layer:
+                if not plain.is_done(standing):
+                    asked.append(standing)
+                    if strict and not set(plan(standing)) <= set(plain.worth(standing)):
+                        return asked
+            if count > most:
+                return asked
+        return asked
+
     def test_very_many_at_once(self):
-        # 2 ** 60 - 1 standings behind the first evening, none of them done.
+        # 2 ** 60 - 1 standings behind the first evening, none of them done: the first one is asked about.
         chart = great_map(3, ((0, 1),) * 60 + ((1, 2),), (2,))
-        self.too_many(2000, judged, chart, lambda standing: worth(chart, standing))
+        for wrong in (((0, 1), ()), ((0, 1), (0, 1, 2)), ((0, 1), tuple(range(50)))):
+            for call in (judged, most_lost, most_evenings):
+                with self.assertRaises(NoPlan):
+                    call(chart, lambda standing: None if standing == wrong else worth(chart, standing))
+        # Not sensible at the first one: what may be wrong behind it does not count.
+        chart = great_map(4, ((0, 1),) * 60 + ((1, 2), (1, 3)), (2,))
+        plan = lambda standing: (61,) if standing == ((0, 1), ()) else worth(chart, standing) if 1 not in standing[0] else ()
+        self.too_many(2000, judged, chart, plan)
         with self.assertRaises(NoPlan):
-            most_lost(chart, lambda standing: worth(chart, standing) if standing == ((0,), ()) else None)
+            most_lost(chart, plan)
         # Several goals: what is done is not asked about.
         chart = great_map(3, ((0, 1),) * 30 + ((0, 2),), (1, 2))
         self.too_many(2000, most_evenings, chart, lambda standing: worth(chart, standing))

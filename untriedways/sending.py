@@ -29,43 +29,25 @@ def standings_behind(chart, standing, lot, most):
 
     If there are more than so many it is a list of some, but still of more than so many.
     """
-    lots = _losses(chart, standing, (), lot, most)
-    return [_behind_losses(chart, standing, lot, lost) for lost in lots]
+    reached, rotten = standing
+    found = []
+    for lost in _losses(chart, rotten, lot, most):
+        heads = [chart.arrows()[arrow][1] for arrow in lot if arrow not in lost]
+        found.append((with_items(reached, heads), with_items(rotten, lost)))
+    return found
 
 
-def open_standings_behind(chart, standing, lot, most):
-    """As standings_behind, but only of those standings that are not done."""
-    reached, _ = standing
-    heads = {arrow: chart.arrows()[arrow][1] for arrow in lot}
-    found = {}
-    for goal in chart.goals():
-        first = tuple([arrow for arrow in lot if heads[arrow] == goal])
-        others = [arrow for arrow in lot if heads[arrow] != goal]
-        if goal not in reached:
-            for lost in _losses(chart, standing, first, others, most):
-                found[_behind_losses(chart, standing, lot, lost)] = True
-    return list(found)
+def _losses(chart, rotten, lot, most):
+    """The list of all lots of these arrows that may be lost.
 
-
-def _losses(chart, standing, first, others, most):
-    """The list of all lots that may be lost: the first ones, and any of the others.
-
-    As soon as there are more than so many, all others that are left are taken for sound.
+    As soon as there are more than so many, all arrows that are left are taken for sound.
     """
-    _, rotten = standing
-    found = [first] if goals_are_open(chart, with_items(rotten, first)) else []
-    for arrow in others:
+    found = [()]
+    for arrow in lot:
         if len(found) <= most:
             more = [with_item(lost, arrow) for lost in found]
             found.extend([lost for lost in more if goals_are_open(chart, with_items(rotten, lost))])
     return found
-
-
-def _behind_losses(chart, standing, lot, lost):
-    """The standing behind the lot if just these were lost."""
-    reached, rotten = standing
-    heads = [chart.arrows()[arrow][1] for arrow in lot if arrow not in lost]
-    return (with_items(reached, heads), with_items(rotten, lost))
 
 
 def lost_in(pairs):

@@ -1,19 +1,18 @@
 """Strangers' plans: what is wrong with them, and what they lose."""
 
 from untriedways.cores import bits
+from untriedways.crowds import Crowd
 from untriedways.errors import NoNumber, TooMany
 from untriedways.foes import led_by_foe
 from untriedways.maps import goals_are_open
 from untriedways.parts import part
 from untriedways.plans import asked
-from untriedways.sending import open_standings_behind, standing_behind, standings_behind
+from untriedways.sending import standing_behind, standings_behind
 from untriedways.smallmaps import packed
-from untriedways.standings import begin, done_at, worth_at
+from untriedways.standings import begin, done_at, steps_to_go
 from untriedways.values import is_number
 
 MOST_STANDINGS = 2000
-# Of an evening with too many standings no more are asked whether the plan is right there.
-MOST_ASKED = 1 << 16
 MOST_ARROWS = 12
 
 
@@ -82,14 +81,15 @@ def _led_everywhere(chart, plan, strict):
     """
     sent = {}
     layer = {begin(chart): True}
-    crowded = False
-    while layer or crowded:
+    while layer:
         found = _ask_all(chart, plan, layer, sent, strict)
-        if crowded:
-            raise TooMany(MOST_STANDINGS)
         if found is not None:
             return (sent, found)
-        layer, crowded = _next_layer(chart, layer, sent)
+        fresh = _next_layer(chart, layer, sent)
+        if fresh is None:
+            _ask_crowd(chart, plan, {one: sent[one] for one in layer}, strict)
+            raise TooMany(MOST_STANDINGS)
+        layer = fresh
     return (sent, None)
 
 
@@ -97,35 +97,41 @@ def _ask_all(chart, plan, layer, sent, strict):
     """Asks the plan at these standings, in order; if it is strict, up to an arrow not worth a try."""
     for standing in sorted(list(layer)):
         sent[standing] = () if done_at(chart, standing) else asked(chart, plan, standing)
-        if strict:
-            worthy = worth_at(chart, standing)
-            for arrow in sent[standing]:
-                if arrow not in worthy:
-                    return (standing, arrow)
+        worthless = _worthless(chart, standing, sent[standing]) if strict else []
+        if worthless:
+            return (standing, worthless[0])
     return None
 
 
-def _next_layer(chart, layer, sent):
-    """The tuple of a dict of all new standings behind the next evening, and whether they are too
-    many: then it has only those that are not done, at which the plan is asked all the same.
+def _ask_crowd(chart, plan, sent, strict):
+    """Asks the plan at all standings behind what it sent in an evening, as _ask_all does.
+
+    However many they are: that it is wrong at one of them comes ahead of their number.
     """
+    crowd = Crowd(chart, sent)
+    standing = crowd.next_standing()
+    while standing is not None:
+        lot = asked(chart, plan, standing)
+        if strict and _worthless(chart, standing, lot):
+            return
+        standing = crowd.next_standing()
+
+
+def _worthless(chart, standing, lot):
+    """The list of the tries of the lot that are not worth it."""
+    steps = steps_to_go(chart, standing)
+    return [arrow for arrow in lot if steps[chart.arrows()[arrow][1]] is None]
+
+
+def _next_layer(chart, layer, sent):
+    """A dict of all new standings behind the next evening, None if they are too many."""
     fresh = {}
     for standing in layer:
         for behind in standings_behind(chart, standing, sent[standing], MOST_STANDINGS):
             if behind not in sent:
                 fresh[behind] = True
         if len(sent) + len(fresh) > MOST_STANDINGS:
-            return (_open_layer(chart, layer, sent), True)
-    return (fresh, False)
-
-
-def _open_layer(chart, layer, sent):
-    fresh = {}
-    for standing in layer:
-        if len(fresh) <= MOST_ASKED:
-            for behind in open_standings_behind(chart, standing, sent[standing], MOST_ASKED):
-                if behind not in sent:
-                    fresh[behind] = True
+            return None
     return fresh
 
 
